@@ -1,0 +1,1 @@
+"""Keeplog: one log kept by several keepers over a bad road."""
