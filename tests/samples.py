@@ -1,7 +1,11 @@
-"""Letters with their writings, and things that are near to one and none."""
+"""Letters with their writings, things that are near to one and none, rows and seats."""
+
+import itertools
 
 SIXTY = 10 ** 60 - 1
 SIXTY_ONE = 10 ** 60
+HUGE = 10 ** 70
+NINE = tuple(range(9))
 
 OPEN = ("open",)
 STORE = ((("a", 1), ("ab", -2), ("b", 0)), (("al", 1, 0), ("bob", 3, -7)))
@@ -81,3 +85,46 @@ def deep(make, depth):
     for turn in range(depth):
         thing = make([thing])
     return thing
+
+
+class Sealed:
+    """What an entry may hold: a thing that fails when it is looked at."""
+
+    def fail(self, *things):
+        raise AssertionError("what an entry holds was looked at")
+
+    __eq__ = __ne__ = __lt__ = __hash__ = __len__ = __getitem__ = __iter__ = __bool__ = fail
+
+
+def entries_of(terms, mark="own"):
+    """Entries of these terms, each holding a thing of its own."""
+    return tuple((term, (mark, at)) for at, term in enumerate(terms))
+
+
+def small_rows():
+    """All rows of up to three entries of the terms 1 to 3, with three bases."""
+    for base, last in ((0, 0), (1, 1), (4, 2)):
+        for many in range(4):
+            for terms in itertools.product((1, 2, 3), repeat=many):
+                yield (base, last, entries_of(terms))
+
+
+def placed(row):
+    """The entries of a row by their places, counted one by one."""
+    by_place, place = {}, row[0]
+    for entry in row[2]:
+        place += 1
+        by_place[place] = entry
+    return by_place
+
+
+EMPTY = (0, 0, ())
+PACKED = (6, 3, ())
+PLAIN = (0, 0, entries_of((1, 1, 2, 5)))
+BASED = (6, 3, entries_of((3, 4, 4)))
+FAR = (HUGE, HUGE, entries_of((HUGE, HUGE + 1)))
+
+
+def some_seats(many):
+    """All seats of the first so many keepers."""
+    return [seats for size in range(1, many + 1) for seats in itertools.combinations(range(many), size)]

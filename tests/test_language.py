@@ -39,6 +39,12 @@ NAMES_OUT = (
     "delattr dir eval exec exit gc getattr globals hasattr help id importlib license locals methodcaller os quit setattr super type "
     "vars sys __name__ chr format format_map print"
 ).split()
+STANDS_ON = {
+    "rows": ["errors"],
+    "filling": ["errors", "rows"],
+    "seats": [],
+    "counting": ["seats"],
+}
 PLAIN_NAME = re.compile(r"[A-Za-z][A-Za-z0-9_]*")
 
 
@@ -166,6 +172,11 @@ class Language(unittest.TestCase):
             free = [name for name in draws if not any(drawn in draws for drawn in draws[name])]
             self.assertNotEqual(free, [], draws)
             draws = {name: drawn for name, drawn in draws.items() if name not in free}
+
+    def test_what_each_file_stands_on(self):
+        for name, beneath in STANDS_ON.items():
+            drawn = {node.module for node in tree_of(PACKAGE / f"{name}.py").body if isinstance(node, ast.ImportFrom)}
+            self.assertLessEqual(drawn, {f"keeplog.{other}" for other in beneath}, name)
 
     def test_names(self):
         own = dir(builtins)
