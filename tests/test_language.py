@@ -39,11 +39,17 @@ NAMES_OUT = (
     "delattr dir eval exec exit gc getattr globals hasattr help id importlib license locals methodcaller os quit setattr super type "
     "vars sys __name__ chr format format_map print"
 ).split()
+VALUES_OUT = "items keys values pop update append clear extend insert remove reverse setdefault sort args encode format".split()
+BENEATH_KEEPERS = ["errors", "rows", "filling", "seats", "counting", "stores", "packs"]
 STANDS_ON = {
     "rows": ["errors"],
     "filling": ["errors", "rows"],
     "seats": [],
     "counting": ["seats"],
+    "stores": [],
+    "packs": ["errors", "rows", "seats", "stores"],
+    "keepers": BENEATH_KEEPERS,
+    "agreeing": BENEATH_KEEPERS + ["keepers"],
 }
 PLAIN_NAME = re.compile(r"[A-Za-z][A-Za-z0-9_]*")
 
@@ -206,6 +212,15 @@ class Language(unittest.TestCase):
         for node, where in nodes(ast.Attribute):
             self.assertIn(node.attr, set(METHODS) | values | methods, where)
             self.assertNotIn(node.attr, NAMES_OUT, where)
+
+    def test_values_of_objects(self):
+        for node, where in nodes(ast.Attribute):
+            if isinstance(node.ctx, ast.Store):
+                self.assertIsInstance(node.value, ast.Name, where)
+                self.assertNotIn(node.attr, VALUES_OUT, where)
+        for node, where in nodes(ast.FunctionDef):
+            if node.name == "__init__":
+                self.assertFalse(any(isinstance(part, ast.Return) for part in ast.walk(node)), where)
 
     def test_texts(self):
         for path in MODULES:
