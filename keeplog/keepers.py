@@ -16,8 +16,7 @@ class Keeper:
 
     def wake(self):
         self.be_plain()
-        self.nexts = (end_of(self.row) + 1,) * 9
-        self.held = (0,) * 9
+        self.know_no_places()
         # Of what stands behind the pack it is not written down how much was agreed.
         self.agreed = self.pack[0]
         self.store = self.pack[3]
@@ -33,6 +32,11 @@ class Keeper:
         self.voices = ()
         self.head = None
         self.waits = ()
+
+    def know_no_places(self):
+        # Of what the others hold it knows nothing, and tries them at its own end first.
+        self.nexts = (end_of(self.row) + 1,) * 9
+        self.held = (0,) * 9
 
 
 def seats_now(keeper):

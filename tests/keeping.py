@@ -3,6 +3,7 @@
 import copy
 
 from keeplog.keepers import Keeper
+from keeplog.things import is_letter
 
 KEPT = ("number", "term", "voice", "pack", "row")
 LOST = ("way", "voices", "nexts", "held", "agreed", "store", "head", "waits")
@@ -55,8 +56,32 @@ def add_entry(term, caller, number, name="x", value=1):
     return wish_entry(term, caller, number, ("add", name, value))
 
 
+def on_all_ways(term):
+    """A keeper that is plain, one that takes another for head, one that is standing, and one that is head."""
+    entries = (opened(1), add_entry(term, "al", 1))
+    row = (0, 0, entries)
+    return (
+        keeper_with(0, THREE, term=term, row=row),
+        keeper_with(0, THREE, term=term, row=row, voice=2, head=2),
+        keeper_with(0, THREE, term=term, row=row, voice=0, way="standing", voices=(0,)),
+        head_with(0, THREE, term, entries, waits=(("al", 1, 2),), nexts=nine(3, 2, 2), held=nine(0, 1, 0), agreed=1),
+    )
+
+
 class WholeState:
     """For a test case: what a keeper has is looked at as a whole, so that nothing changes unseen."""
+
+    def gives(self, given, letters):
+        self.assertEqual(given, list(letters))
+        self.assertIsInstance(given, list)
+        for letter in given:
+            self.assertTrue(is_letter(letter), letter)
+
+    def takes_so(self, take, keeper, letter, letters, **changes):
+        """Takes a letter, or whatever else: what is written, and what changes by that, and nothing else."""
+        ahead = values_of(keeper)
+        self.gives(take(keeper, letter), letters)
+        self.has(keeper, ahead, **changes)
 
     def has(self, keeper, ahead, **changes):
         wanted = dict(ahead)

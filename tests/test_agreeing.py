@@ -7,7 +7,7 @@ from keeplog.packs import first_pack, pack_at
 from keeplog.stores import fresh, replayed
 from keeplog.things import is_letter, is_pack, is_store
 from tests.keeping import (
-    THREE, WholeState, add_entry, head_with, keeper_with, nine, opened, seats_entry, twin_of, values_of, wish_entry,
+    THREE, WholeState, add_entry, head_with, keeper_with, nine, on_all_ways, opened, seats_entry, twin_of, values_of, wish_entry,
 )
 from tests.samples import HUGE, NINE
 
@@ -28,18 +28,6 @@ def told(caller, number, answer, one=0):
     return ("told", one, caller, number, answer)
 
 
-def on_all_ways(term):
-    """A keeper that is plain, one that takes another for head, one that is standing, and one that is head."""
-    entries = (opened(1), add_entry(term, "al", 1))
-    row = (0, 0, entries)
-    return (
-        keeper_with(0, THREE, term=term, row=row),
-        keeper_with(0, THREE, term=term, row=row, voice=2, head=2),
-        keeper_with(0, THREE, term=term, row=row, voice=0, way="standing", voices=(0,)),
-        head_with(0, THREE, term, entries, waits=(("al", 1, 2),), nexts=nine(3, 2, 2), held=nine(0, 1, 0), agreed=1),
-    )
-
-
 class TakeHeld(unittest.TestCase, WholeState):
     def head(self, **values):
         """A head of term 3 with four entries, none of which three of five hold in its own term."""
@@ -49,11 +37,7 @@ class TakeHeld(unittest.TestCase, WholeState):
         return head_with(0, FIVE, 3, entries, **own)
 
     def takes(self, keeper, letter, letters=(), **changes):
-        ahead = values_of(keeper)
-        given = take_held(keeper, letter)
-        self.assertEqual(given, list(letters))
-        self.assertIsInstance(given, list)
-        self.has(keeper, ahead, **changes)
+        self.takes_so(take_held, keeper, letter, letters, **changes)
 
     def test_a_greater_term_is_heard_of_and_nothing_else(self):
         for good in (True, False):
@@ -347,12 +331,7 @@ class SteppingBack(unittest.TestCase, WholeState):
 
 class TakeWish(unittest.TestCase, WholeState):
     def takes(self, keeper, letter, letters, **changes):
-        ahead = values_of(keeper)
-        given = take_wish(keeper, letter)
-        self.assertEqual(given, letters)
-        self.assertIsInstance(given, list)
-        self.assertTrue(all(is_letter(written) for written in given))
-        self.has(keeper, ahead, **changes)
+        self.takes_so(take_wish, keeper, letter, letters, **changes)
 
     def test_it_is_not_head(self):
         for number in (1, 2, HUGE):

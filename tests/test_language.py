@@ -50,6 +50,10 @@ STANDS_ON = {
     "packs": ["errors", "rows", "seats", "stores"],
     "keepers": BENEATH_KEEPERS,
     "agreeing": BENEATH_KEEPERS + ["keepers"],
+    "handing": BENEATH_KEEPERS + ["keepers"],
+    "voting": BENEATH_KEEPERS + ["keepers", "agreeing", "handing"],
+    "roads": ["errors"],
+    "callers": [],
 }
 PLAIN_NAME = re.compile(r"[A-Za-z][A-Za-z0-9_]*")
 
