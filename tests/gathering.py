@@ -1,12 +1,11 @@
-"""Several keepers and callers between which letters go over a road, and a witness that looks at all that comes of it."""
+"""A room, and a witness that looks at all that comes of what is done there."""
 
 import functools
 
 from keeplog.agreeing import move, pack_up, take_held, take_wish
-from keeplog.callers import Caller
-from keeplog.handing import beat, take_hand, take_pack
-from keeplog.keepers import Keeper, seats_now
-from keeplog.roads import Road
+from keeplog.handing import take_hand, take_pack
+from keeplog.keepers import seats_now
+from keeplog.rooms import Room
 from keeplog.rows import end_of
 from keeplog.things import is_letter, is_pack, is_store
 from keeplog.voting import stand, take_ask, take_voice
@@ -97,16 +96,19 @@ class Witness:
         case.assertTrue(is_pack(keeper.pack) and is_store(keeper.store))
 
     def sees_act(self, keeper, act, *parts):
-        """Does it, and gives the letters that are written."""
+        """Does it with a keeper alone, and gives the letters that are written."""
         end = end_of(keeper.row)
         letters = act(keeper, *parts)
+        self.sees_outcome(keeper, act in (stand, take_voice), end, letters)
+        return letters
+
+    def sees_outcome(self, keeper, by_voices, end, letters):
         # One that is out may be plain again by now; its open entry tells that it was head.
-        if act in (stand, take_voice) and end_of(keeper.row) > end:
+        if by_voices and end_of(keeper.row) > end:
             self.sees_head(keeper.term, keeper.number)
         self.sees(keeper)
         for letter in letters:
             self.sees_letter(letter)
-        return letters
 
     def sees_letter(self, letter):
         self.case.assertTrue(is_letter(letter), letter)
@@ -124,89 +126,101 @@ class Witness:
 
 class Gathering:
     def __init__(self, case, count, seats):
-        self.keepers = [Keeper(number, seats) for number in range(count)]
-        self.callers = {}
-        self.road = Road()
+        self.room = Room(count, seats)
+        self.keepers = [self.room.keeper(k) for k in range(count)]
         self.witness = Witness(case, seats)
 
+    @property
+    def road(self):
+        return self.room.road
+
+    @property
+    def callers(self):
+        return self.room.named
+
     def caller(self, name):
-        return self.callers.setdefault(name, Caller(name, 0))
+        return self.callers[name]
 
-    def acts(self, k, act, *parts):
-        self.road.put(self.witness.sees_act(self.keepers[k], act, *parts))
+    def acts(self, k, by_voices, left, act, *parts):
+        """Does it in the room; left is how many of the letters on the road stay there."""
+        keeper = self.keepers[k]
+        end = end_of(keeper.row)
+        outcome = act(*parts)
+        self.witness.sees_outcome(keeper, by_voices, end, self.room.letters()[left:])
+        return outcome
 
-    def taken(self, letter):
-        if letter[0] == "told":
-            self.caller(letter[2]).take_told(letter)
-        elif letter[0] == "away":
-            self.caller(letter[2]).take_away(letter)
+    def acts_by_itself(self, k, act, *parts):
+        return self.acts(k, act == self.room.stand, len(self.room.letters()), act, *parts)
+
+    def takes(self, act, at, gone):
+        letter = self.room.letters()[at]
+        if letter[0] in TAKES:
+            self.acts(letter[2], letter[0] == "voice", len(self.room.letters()) - gone, act, at)
         else:
-            self.acts(letter[2], TAKES[letter[0]], letter)
+            act(at)
 
     def stand(self, k):
-        self.acts(k, stand)
+        self.acts_by_itself(k, self.room.stand, k)
 
     def beat(self, k, other):
-        self.acts(k, beat, other)
+        self.acts_by_itself(k, self.room.beat, k, other)
 
     def wake(self, k):
-        self.acts(k, wake)
+        self.acts_by_itself(k, self.room.wake, k)
 
     def move(self, k, seats):
-        ahead = self.keepers[k].row
-        self.acts(k, moved, seats)
-        return self.keepers[k].row != ahead
+        return self.acts_by_itself(k, self.room.move, k, seats)
 
     def pack(self, k, place):
-        ahead = self.keepers[k].pack
-        self.acts(k, packed, place)
-        return self.keepers[k].pack != ahead
+        return self.acts_by_itself(k, self.room.pack_up, k, place)
 
     def bring(self, at):
-        self.taken(self.road.take(at))
+        self.takes(self.room.bring, at, 1)
 
     def double(self, at):
-        self.taken(self.road.look(at))
+        self.takes(self.room.double, at, 0)
 
     def lose(self, at):
-        self.road.take(at)
+        self.room.lose(at)
 
     def lose_all(self):
-        while self.road.waiting():
+        while self.room.letters():
             self.lose(0)
 
     def bring_all(self):
-        while self.road.waiting():
+        while self.room.letters():
             self.bring(0)
 
-    def round(self, k):
+    def round(self, k, brought_behind_each=False):
         """It beats to each other one of its seats, and all letters are brought behind that."""
         for other in self.seats_of(k):
             if other != k:
                 self.beat(k, other)
+                if brought_behind_each:
+                    self.bring_all()
         self.bring_all()
 
     def bring_to(self, *keepers):
         """Brings what goes to these, and what comes of it, first things first; the rest stays on the road."""
         at = 0
-        while at < len(self.road.waiting()):
-            if self.road.look(at)[2] in keepers:
+        while at < len(self.room.letters()):
+            if self.room.letters()[at][2] in keepers:
                 self.bring(at)
                 at = 0
             else:
                 at += 1
 
     def wish(self, name, deed):
-        letters = self.caller(name).wish(deed)
-        for letter in letters:
+        left = len(self.room.letters())
+        self.room.wish(name, deed)
+        for letter in self.room.letters()[left:]:
             self.witness.wished[name, letter[3]] = deed
-        self.road.put(letters)
 
     def again(self, name):
-        self.road.put(self.caller(name).again())
+        self.room.again(name)
 
     def turn(self, name, k):
-        self.caller(name).asks = k
+        self.room.turn(name, k)
 
     def heads(self):
         return [keeper.number for keeper in self.keepers if keeper.way == "head"]

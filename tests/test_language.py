@@ -39,8 +39,14 @@ NAMES_OUT = (
     "delattr dir eval exec exit gc getattr globals hasattr help id importlib license locals methodcaller os quit setattr super type "
     "vars sys __name__ chr format format_map print"
 ).split()
+METHODS_ALLOWED = METHODS + ["add", "discard"]
+VALUES_ALLOWED = "count index title find get join lower upper split strip copy add".split()
+WALKED_AT_ONCE = "zip enumerate reversed range".split()
+WALKERS = "list tuple dict sorted sum any all enumerate zip min max".split()
+OWN_KINDS = (str, int, list, tuple, dict, set, frozenset, bytes)
 VALUES_OUT = "items keys values pop update append clear extend insert remove reverse setdefault sort args encode format".split()
 BENEATH_KEEPERS = ["errors", "rows", "filling", "seats", "counting", "stores", "packs"]
+BENEATH_ROOMS = ["errors", "seats", "counting", "stores", "packs", "keepers", "agreeing", "handing", "voting"]
 STANDS_ON = {
     "rows": ["errors"],
     "filling": ["errors", "rows"],
@@ -54,6 +60,7 @@ STANDS_ON = {
     "voting": BENEATH_KEEPERS + ["keepers", "agreeing", "handing"],
     "roads": ["errors"],
     "callers": [],
+    "rooms": BENEATH_ROOMS + ["roads", "callers"],
 }
 PLAIN_NAME = re.compile(r"[A-Za-z][A-Za-z0-9_]*")
 
@@ -216,6 +223,54 @@ class Language(unittest.TestCase):
         for node, where in nodes(ast.Attribute):
             self.assertIn(node.attr, set(METHODS) | values | methods, where)
             self.assertNotIn(node.attr, NAMES_OUT, where)
+
+    def test_free_names_of_methods_and_values(self):
+        own = {name for kind in OWN_KINDS for name in dir(kind)}
+        for node, where in nodes(ast.ClassDef):
+            for part in node.body:
+                if isinstance(part, ast.FunctionDef) and not part.name.startswith("__"):
+                    self.assertTrue(part.name not in own or part.name in METHODS_ALLOWED, (where, part.name))
+        for node, where in nodes(ast.Attribute):
+            if isinstance(node.ctx, ast.Store):
+                self.assertTrue(node.attr not in own or node.attr in VALUES_ALLOWED, (where, node.attr))
+
+    def test_names_are_drawn_from_the_files_that_define_them(self):
+        for node, where in nodes(ast.ImportFrom):
+            tree = tree_of(PACKAGE.parent / (node.module.replace(".", "/") + ".py"))
+            defined = [part.name for part in tree.body if isinstance(part, (ast.FunctionDef, ast.ClassDef))]
+            defined += [part.targets[0].id for part in tree.body if isinstance(part, ast.Assign)]
+            for alias in node.names:
+                self.assertIn(alias.name, defined, where)
+
+    def test_errors(self):
+        own = [node.name for node in tree_of(PACKAGE / "errors.py").body if isinstance(node, ast.ClassDef)]
+        for node, where in nodes(ast.ExceptHandler):
+            self.assertIsInstance(node.type, ast.Name, where)
+            self.assertIn(node.type.id, own + ["KeyError", "ZeroDivisionError", "StopIteration"], where)
+        for node, where in nodes(ast.Raise):
+            self.assertIsInstance(node.exc, ast.Call, where)
+            self.assertIn(node.exc.func.id, own, where)
+            self.assertTrue(node.cause is None or isinstance(node.cause, ast.Constant) and node.cause.value is None, where)
+
+    def test_texts_with_names_in_them(self):
+        for node, where in nodes(ast.FormattedValue):
+            self.assertIsInstance(node.value, ast.Name, where)
+            self.assertIsNone(node.format_spec, where)
+            self.assertIn(node.conversion, (-1, ord("r")), where)
+
+    def test_what_is_walked_at_once(self):
+        for path in MODULES:
+            tree, walked = tree_of(path), []
+            for node in ast.walk(tree):
+                if isinstance(node, (ast.For, ast.comprehension)):
+                    walked.append(node.iter)
+                if isinstance(node, ast.Call) and isinstance(node.func, ast.Name) and node.func.id in WALKERS:
+                    walked += node.args
+            for node in ast.walk(tree):
+                if isinstance(node, ast.Call):
+                    name = node.func.id if isinstance(node.func, ast.Name) else node.func.attr
+                    if name in WALKED_AT_ONCE + ["items", "keys", "values"]:
+                        self.assertIn(node, walked, (path, node.lineno))
 
     def test_values_of_objects(self):
         for node, where in nodes(ast.Attribute):

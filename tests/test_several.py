@@ -6,7 +6,7 @@ import unittest
 
 from keeplog.handing import beat
 from keeplog.keepers import Keeper
-from keeplog.rows import as_new, end_of, newness
+from keeplog.rows import as_new, behind, end_of, newness, term_at
 from keeplog.stores import replayed
 from keeplog.things import is_letter, is_pack, is_store
 from keeplog.voting import stand
@@ -488,19 +488,31 @@ class Schedules(unittest.TestCase):
             for number, answer in caller.told:
                 self.assertEqual(some.witness.told[name, number], answer)
 
-    def comes_to_an_end(self, some, k):
-        """On a calm road, by standing at most twice and beating, all its seats come to have its row."""
-        for again in range(2):
-            if some.keepers[k].way != "head" or not again:
-                some.stand(k)
-                some.bring_all()
+    def comes_to_be_head(self, some, k):
+        """On a calm road, by standing once, or twice where it is not head yet."""
+        some.stand(k)
+        some.bring_all()
+        if some.keepers[k].way != "head":
+            some.stand(k)
+            some.bring_all()
+        self.assertEqual(some.keepers[k].way, "head")
+
+    def have_one_row(self, keeper, other):
+        """Of what one of them has packed up nothing is to be compared but the term."""
+        base = max(keeper.row[0], other.row[0])
+        self.assertEqual(newness(other.row), newness(keeper.row))
+        self.assertEqual(term_at(other.row, base), term_at(keeper.row, base))
+        self.assertEqual(behind(other.row, base, end_of(other.row)), behind(keeper.row, base, end_of(keeper.row)))
+
+    def comes_to_an_end(self, some, k, brought_behind_each):
+        """By beating so often all its seats come to have its row, and it is agreed."""
+        self.comes_to_be_head(some, k)
         keeper = some.keepers[k]
-        self.assertEqual(keeper.way, "head")
         for again in range(2 * end_of(keeper.row) + 4):
-            some.round(k)
-        self.assertEqual(keeper.agreed, end_of(keeper.row))
+            some.round(k, brought_behind_each)
+        self.assertEqual((keeper.way, keeper.agreed), ("head", end_of(keeper.row)))
         for other in some.seats_of(k):
-            self.assertEqual(newness(some.keepers[other].row), newness(keeper.row))
+            self.have_one_row(keeper, some.keepers[other])
 
     def newest(self, some):
         """Those of their seats whose row is as new as that of each of these."""
@@ -530,7 +542,7 @@ class Schedules(unittest.TestCase):
                 some.bring_all()
                 for k in list(self.newest(some)):
                     twin = copy.deepcopy(some, {id(self): self})
-                    self.comes_to_an_end(twin, k)
+                    self.comes_to_an_end(twin, k, brought_behind_each=bool(seed % 2))
 
 
 class LettersThatNoKeeperWrote(unittest.TestCase):
